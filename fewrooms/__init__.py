@@ -1,0 +1,1 @@
+"""Works that need works, done in as few rooms as can be."""

@@ -1,0 +1,102 @@
+"""Nets and things that the tests share, and small plain ways to try all."""
+
+import random
+
+
+def row(n):
+    return tuple(() if k == 0 else (k - 1,) for k in range(n))
+
+
+def all_ahead(n):
+    return tuple(tuple(range(k)) for k in range(n))
+
+
+def square(n, m):
+    net = []
+    for i in range(n):
+        for j in range(m):
+            needs = []
+            if i:
+                needs.append((i - 1) * m + j)
+            if j:
+                needs.append(i * m + j - 1)
+            net.append(tuple(needs))
+    return tuple(net)
+
+
+def full_tree(height):
+    """Two needs for each work above the ground, numbered from the ground up."""
+    net = [()] * 2 ** height
+    row_ahead = list(range(2 ** height))
+    while len(row_ahead) > 1:
+        pairs = [tuple(row_ahead[k:k + 2]) for k in range(0, len(row_ahead), 2)]
+        row_ahead = list(range(len(net), len(net) + len(pairs)))
+        net.extend(pairs)
+    return tuple(net)
+
+
+def ladder(n):
+    """Two works, then n pairs of works that need both of the pair ahead."""
+    net = [(), ()]
+    for k in range(n):
+        net += [(2 * k, 2 * k + 1)] * 2
+    return tuple(net)
+
+
+ONE = ((),)
+# 3 needs 1 and 2, both need 0; nobody needs 4, and 5 needs 0 and 3.
+MIXED = ((), (0,), (0,), (1, 2), (2,), (0, 3))
+# A tree up to 6, of which a work beyond it, 7, needs parts too; 8 stands alone.
+LEANT_ON = ((), (), (0, 1), (), (3,), (), (2, 4, 5), (0, 4), ())
+
+NAMED = (
+    ONE,
+    ((), ()),
+    MIXED,
+    LEANT_ON,
+    row(5),
+    row(400),
+    all_ahead(6),
+    square(3, 4),
+    full_tree(3),
+    ladder(4),
+    ((),) * 7,
+)
+
+
+def chance_net(dice, n, most=3):
+    net = []
+    for k in range(n):
+        many = dice.randint(0, min(most, k))
+        net.append(tuple(sorted(dice.sample(range(k), many))))
+    return tuple(net)
+
+
+def chance_nets(seed, many, most_works, most_needs=3):
+    dice = random.Random(seed)
+    return [chance_net(dice, dice.randint(1, most_works), most_needs) for _ in range(many)]
+
+
+def chance_asked(dice, net):
+    many = dice.randint(1, min(4, len(net)))
+    return tuple(sorted(dice.sample(range(len(net)), many)))
+
+
+def is_a_net(net):
+    return (type(net) is tuple and len(net) > 0 and all(
+        type(needs) is tuple and list(needs) == sorted(set(needs))
+        and all(type(need) is int and 0 <= need < work for need in needs)
+        for work, needs in enumerate(net)))
+
+
+def nested(thing, depth, kind):
+    for _ in range(depth):
+        thing = kind((thing,))
+    return thing
+
+
+ODD_THINGS = (
+    None, True, False, 0, 1, -1, 10 ** 30, "", "net", "()", (), [], [()], [[]], ((), []), ([],), (None,), (0,), (1,),
+    (True,), ("",), ("a", "b"), ((), (), 3), ((), "0"), ((), None), ((), True), (((),),), [(), (0,)], (((), ()),),
+    nested(0, 19, tuple), nested((), 19, tuple), nested((), 19, list), nested(None, 19, list), nested("a", 19, tuple),
+)
