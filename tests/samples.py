@@ -100,3 +100,39 @@ ODD_THINGS = (
     (True,), ("",), ("a", "b"), ((), (), 3), ((), "0"), ((), None), ((), True), (((),),), [(), (0,)], (((), ()),),
     nested(0, 19, tuple), nested((), 19, tuple), nested((), 19, list), nested(None, 19, list), nested("a", 19, tuple),
 )
+
+
+def chance_plan(dice, net, rooms, many):
+    """A plan of moves that are let by in so many rooms, found without the program."""
+    stand, plan = set(), []
+    for _ in range(many):
+        dos = [("do", work) for work in range(len(net))
+               if work not in stand and set(net[work]) <= stand and len(stand) < rooms]
+        moves = dos * 2 + [("clear", work) for work in sorted(stand)]
+        word, work = dice.choice(moves)
+        plan.append((word, work))
+        stand.symmetric_difference_update((work,))
+    return plan
+
+
+def stands_behind(plan):
+    """The stands of a plan whose moves are known to be let by."""
+    stands = [()]
+    for word, work in plan:
+        stands.append(tuple(sorted(set(stands[-1]) ^ {work})))
+    return stands
+
+
+def first_fault(net, rooms, plan):
+    """The number and word of the first move that is barred, or None."""
+    stand = set()
+    for number, (word, work) in enumerate(plan):
+        if word == "clear":
+            due = [("empty", work not in stand)]
+        else:
+            due = [("there", work in stand), ("needs", not set(net[work]) <= stand), ("full", len(stand) >= rooms)]
+        for fault, is_due in due:
+            if is_due:
+                return number, fault
+        stand ^= {work}
+    return None
