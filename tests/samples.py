@@ -1,5 +1,6 @@
 """Nets and things that the tests share, and small plain ways to try all."""
 
+import heapq
 import random
 
 
@@ -136,3 +137,89 @@ def first_fault(net, rooms, plan):
                 return number, fault
         stand ^= {work}
     return None
+
+
+def paths_by_words(net, work):
+    if not net[work]:
+        return [(work,)]
+    return sorted(path + (work,) for need in net[work] for path in paths_by_words(net, need))
+
+
+def sides_by_words(net, path):
+    """All sides of a path."""
+    ends = {need for work in path[1:] for need in net[work]}
+    sides = [side for end in sorted(ends) for side in paths_by_words(net, end)]
+    return [side for side in sides if not set(side) & set(path)]
+
+
+def most_apart(sides):
+    """How many of the sides, at the most, have no common work, by trying all."""
+    if not sides:
+        return 0
+    first, rest = sides[0], sides[1:]
+    apart = [side for side in rest if not set(side) & set(first)]
+    return max(most_apart(rest), 1 + most_apart(apart))
+
+
+def joined(counts):
+    """A work with as many paths as the counts multiplied."""
+    net = [()]
+    for many in counts:
+        last = len(net) - 1
+        net += [(last,)] * many
+        net.append(tuple(range(last + 1, last + 1 + many)))
+    return tuple(net)
+
+
+def moves_by_words(net, rooms, stand):
+    """Pairs (word, stand behind it) of all moves that are let by at a stand."""
+    for work in range(len(net)):
+        if work in stand:
+            yield "clear", tuple(result for result in stand if result != work)
+        elif set(net[work]) <= set(stand) and len(stand) < rooms:
+            yield "do", tuple(sorted(stand + (work,)))
+
+
+def reached_by_words(net, rooms):
+    """For each stand that can be come to, the fewest do's up to it."""
+    steps, due = {}, [(0, ())]
+    while due:
+        number, stand = heapq.heappop(due)
+        if stand not in steps:
+            steps[stand] = number
+            for word, further in moves_by_words(net, rooms, stand):
+                heapq.heappush(due, (number + (word == "do"), further))
+    return steps
+
+
+def least_by_words(net, asked, rooms):
+    """The fewest steps of a plan that does asked in so many rooms, or None."""
+    steps = reached_by_words(net, rooms)
+    return min((steps[stand] for stand in steps if set(asked) <= set(stand)), default=None)
+
+
+def fewest_by_words(net, asked):
+    rooms = 1
+    while least_by_words(net, asked, rooms) is None:
+        rooms += 1
+    return rooms
+
+
+def lists_in(thing):
+    """All lists within a thing, itself among them."""
+    found = [thing] if isinstance(thing, list) else []
+    if isinstance(thing, (list, tuple)):
+        for part in thing:
+            found += lists_in(part)
+    return found
+
+
+def spoil(thing):
+    """Empties all lists within a thing."""
+    for found in lists_in(thing):
+        found.clear()
+
+
+def plan_does(net, rooms, plan, asked):
+    """Whether a plan is let by whole and ends with the asked results, without the program."""
+    return first_fault(net, rooms, plan) is None and set(asked) <= set(stands_behind(plan)[-1])

@@ -3,42 +3,10 @@ import unittest
 
 from fewrooms.errors import RoomError, TooMany
 from fewrooms.paths import all_paths, shows_sides, sides_of
-from samples import (LEANT_ON, MIXED, NAMED, ODD_THINGS, ONE, all_ahead, chance_net, chance_nets, full_tree, ladder, row,
-                     square)
+from samples import (LEANT_ON, MIXED, NAMED, ODD_THINGS, ONE, all_ahead, chance_net, chance_nets, full_tree, joined,
+                     ladder, most_apart, paths_by_words, row, sides_by_words, square)
 
 SMALL = [net for net in NAMED if len(net) < 50] + chance_nets(61, 80, 9)
-
-
-def paths_by_words(net, work):
-    if not net[work]:
-        return [(work,)]
-    return sorted(path + (work,) for need in net[work] for path in paths_by_words(net, need))
-
-
-def sides_by_words(net, path):
-    """All sides of a path."""
-    ends = {need for work in path[1:] for need in net[work]}
-    sides = [side for end in sorted(ends) for side in paths_by_words(net, end)]
-    return [side for side in sides if not set(side) & set(path)]
-
-
-def most_apart(sides):
-    """How many of the sides, at the most, have no common work, by trying all."""
-    if not sides:
-        return 0
-    first, rest = sides[0], sides[1:]
-    apart = [side for side in rest if not set(side) & set(first)]
-    return max(most_apart(rest), 1 + most_apart(apart))
-
-
-def joined(counts):
-    """A work with as many paths as the counts multiplied."""
-    net = [()]
-    for many in counts:
-        last = len(net) - 1
-        net += [(last,)] * many
-        net.append(tuple(range(last + 1, last + 1 + many)))
-    return tuple(net)
 
 
 class TestAllPaths(unittest.TestCase):

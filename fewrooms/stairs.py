@@ -1,0 +1,66 @@
+"""Rooms against steps, on small nets, by going through all stands."""
+
+from fewrooms.moves import moves_of, stand_behind
+from fewrooms.nets import all_needed
+
+
+# For each stand that can be come to, the tuple of the fewest do's up to it, the stand ahead of it and the move between.
+def stands_reached(net, rooms):
+    reached = {(): (0, None, None)}
+    gone_through = {}
+    # Stands with the fewest do's lie last.
+    due = [()]
+    while due:
+        stand = due.pop()
+        if stand in gone_through:
+            continue
+        gone_through[stand] = True
+        for move in moves_of(net, rooms, stand):
+            further = stand_behind(stand, move)
+            is_do = move[0] == "do"
+            steps = reached[stand][0] + 1 if is_do else reached[stand][0]
+            if further in reached and reached[further][0] <= steps:
+                continue
+            reached[further] = (steps, stand, move)
+            if is_do:
+                due.insert(0, further)
+            else:
+                due.append(further)
+    return reached
+
+
+# The stand with all asked results that the fewest do's lead to; None where there is none.
+def best_end(reached, asked):
+    ends = [stand for stand in reached if all([work in stand for work in asked])]
+    return min(ends, key=lambda stand: (reached[stand][0], stand), default=None)
+
+
+def plan_to(reached, stand):
+    plan = []
+    while reached[stand][2] is not None:
+        plan.append(reached[stand][2])
+        stand = reached[stand][1]
+    plan.reverse()
+    return plan
+
+
+def least_steps(net, asked, rooms):
+    reached = stands_reached(net, rooms)
+    paper = [(stand, reached[stand][0]) for stand in sorted(reached)]
+    end = best_end(reached, asked)
+    if end is None:
+        return ("none", paper)
+    return ("plan", plan_to(reached, end), reached[end][0], paper)
+
+
+def stair(net, asked):
+    fewest_steps = len(all_needed(net, asked))
+    told = []
+    rooms = 0
+    while not told or told[-1][1] > fewest_steps:
+        rooms += 1
+        reached = stands_reached(net, rooms)
+        end = best_end(reached, asked)
+        if end is not None:
+            told.append((rooms, reached[end][0]))
+    return told
