@@ -5,27 +5,21 @@ from fewrooms.nets import all_needed
 
 
 # For each stand that can be come to, the tuple of the fewest do's up to it, the stand ahead of it and the move between.
+# All moves that lead to a stand have as many more do's than clears as it has results: so the fewest moves that lead
+# there have the fewest do's, and the first way to be found has these.
 def stands_reached(net, rooms):
     reached = {(): (0, None, None)}
-    gone_through = {}
-    # Stands with the fewest do's lie last.
     due = [()]
     while due:
-        stand = due.pop()
-        if stand in gone_through:
-            continue
-        gone_through[stand] = True
-        for move in moves_of(net, rooms, stand):
-            further = stand_behind(stand, move)
-            is_do = move[0] == "do"
-            steps = reached[stand][0] + 1 if is_do else reached[stand][0]
-            if further in reached and reached[further][0] <= steps:
-                continue
-            reached[further] = (steps, stand, move)
-            if is_do:
-                due.insert(0, further)
-            else:
-                due.append(further)
+        later = []
+        for stand in due:
+            for move in moves_of(net, rooms, stand):
+                further = stand_behind(stand, move)
+                if further not in reached:
+                    steps = reached[stand][0] + (1 if move[0] == "do" else 0)
+                    reached[further] = (steps, stand, move)
+                    later.append(further)
+        due = later
     return reached
 
 
