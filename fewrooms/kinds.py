@@ -16,3 +16,29 @@ def is_rising(thing, end):
             return False
         least = number + 1
     return True
+
+
+def is_pair(thing):
+    return isinstance(thing, tuple) and len(thing) == 2
+
+
+def is_work(net, thing):
+    return is_number(thing) and 0 <= thing < len(net)
+
+
+def is_stand(net, rooms, thing):
+    return is_rising(thing, len(net)) and len(thing) <= rooms
+
+
+# Whether a thing is a list of moves, let by or not, each a pair of one of the words and a work.
+def is_plan(net, words, thing):
+    if not isinstance(thing, list):
+        return False
+    return all([is_pair(move) and move[0] in words and is_work(net, move[1]) for move in thing])
+
+
+# Whether a thing is a list of pairs of anything and a number from nought.
+def is_numbered(thing):
+    if not isinstance(thing, list):
+        return False
+    return all([is_pair(pair) and is_number(pair[1]) and pair[1] >= 0 for pair in thing])

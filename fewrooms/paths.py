@@ -1,7 +1,7 @@
 """Paths to a work, and the sides of a path."""
 
 from fewrooms.errors import TooMany
-from fewrooms.kinds import is_number
+from fewrooms.kinds import is_work
 
 MOST_PATHS = 300
 
@@ -105,10 +105,6 @@ def sides_of(net, path):
         turn_round(ways, stops)
         stops = way_back(ways)
     return sorted([side_to(ways, stop // 2) for stop in ways[GOAL]])
-
-
-def is_work(net, thing):
-    return is_number(thing) and 0 <= thing < len(net)
 
 
 # Whether anything is a path of the net to some work.

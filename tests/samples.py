@@ -223,3 +223,94 @@ def spoil(thing):
 def plan_does(net, rooms, plan, asked):
     """Whether a plan is let by whole and ends with the asked results, without the program."""
     return first_fault(net, rooms, plan) is None and set(asked) <= set(stands_behind(plan)[-1])
+
+
+def asks(nets, seed, many=3):
+    """Each net with its last work asked, and with so many drawn asked tuples."""
+    dice = random.Random(seed)
+    for net in nets:
+        yield net, (len(net) - 1,)
+        for _ in range(many):
+            yield net, chance_asked(dice, net)
+
+
+def is_a_number(thing):
+    return type(thing) is int
+
+
+def is_a_stand(net, thing):
+    return (type(thing) is tuple and all(is_a_number(work) and 0 <= work < len(net) for work in thing)
+            and list(thing) == sorted(set(thing)))
+
+
+def part_by_words(net, works):
+    return tuple(tuple(works.index(need) for need in net[work] if need in works) for work in works)
+
+
+def far_moves_by_words(net, rooms, place):
+    """Pairs (move, place behind it) of all moves that are let by at a place."""
+    near, far = place
+    for work in range(len(net)):
+        with_near, with_far = tuple(sorted(set(near) | {work})), tuple(sorted(set(far) | {work}))
+        if work in near:
+            yield ("clear", work), (tuple(one for one in near if one != work), far)
+            if work not in far:
+                yield ("put", work), (near, with_far)
+        elif len(near) < rooms:
+            if set(net[work]) <= set(near):
+                yield ("do", work), (with_near, far)
+            if work in far:
+                yield ("fetch", work), (with_near, far)
+
+
+def cost_by_words(moves, costs):
+    do, put, fetch = costs
+    return sum({"do": do, "clear": 0, "put": put, "fetch": fetch}[word] for word, work in moves)
+
+
+def far_reached_by_words(net, rooms, costs):
+    """For each place that can be come to, the least cost up to it."""
+    cost, due = {}, [(0, ((), ()))]
+    while due:
+        number, place = heapq.heappop(due)
+        if place not in cost:
+            cost[place] = number
+            for move, further in far_moves_by_words(net, rooms, place):
+                heapq.heappush(due, (number + cost_by_words([move], costs), further))
+    return cost
+
+
+def far_place_behind(net, rooms, moves):
+    """The place behind moves from ((), ()) on, or None where one is barred."""
+    place = ((), ())
+    for move in moves:
+        place = dict(far_moves_by_words(net, rooms, place)).get(move)
+        if place is None:
+            return None
+    return place
+
+
+def bent(dice, thing):
+    """The thing with one part of it, at any depth, another one, of another kind, left out, twice or elsewhere."""
+    if not isinstance(thing, (list, tuple)):
+        if is_a_number(thing):
+            return dice.choice((thing - 1, thing + 1, 0, -thing, bool(thing), str(thing), (thing,), None, 10 ** 9))
+        return dice.choice((None, True, 0, "", "do", "clear", "put", "fetch", "plan", "none", (thing,), [thing]))
+    parts = list(thing)
+    place = dice.randrange(len(parts)) if parts else 0
+    chance = dice.random()
+    if parts and chance < 0.6:
+        parts[place] = bent(dice, parts[place])
+    elif parts and chance < 0.7:
+        parts.pop(place)
+    elif parts and chance < 0.8:
+        parts.insert(dice.randint(0, len(parts)), parts[place])
+    elif chance < 0.85:
+        dice.shuffle(parts)
+    elif chance < 0.9:
+        parts.append(dice.choice(ODD_THINGS))
+    elif chance < 0.95:
+        return dice.choice(ODD_THINGS)
+    else:
+        return tuple(parts) if isinstance(thing, list) else parts
+    return type(thing)(parts)

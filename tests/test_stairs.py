@@ -4,21 +4,13 @@ import unittest
 
 from fewrooms.nets import all_needed
 from fewrooms.stairs import least_steps, stair
-from samples import (LEANT_ON, MIXED, ONE, all_ahead, chance_asked, chance_net, chance_nets, fewest_by_words, full_tree,
-                     ladder, least_by_words, lists_in, moves_by_words, plan_does, reached_by_words, row, spoil, square)
+from samples import (LEANT_ON, MIXED, ONE, all_ahead, asks, chance_net, chance_nets, fewest_by_words, full_tree, ladder,
+                     least_by_words, lists_in, moves_by_words, plan_does, reached_by_words, row, spoil, square)
 
 SMALL = [ONE, ((), ()), MIXED, row(5), all_ahead(6), square(2, 3), full_tree(2), ladder(2), ((),) * 5]
 SMALL += chance_nets(81, 40, 7)
 # For 6 in three rooms, 0 must be done twice: it has to give way to 5, and 6 needs it again.
 TWICE = ((), (0,), (0,), (1,), (2,), (3, 4), (0, 5))
-
-
-def asks(nets, seed, many=3):
-    dice = random.Random(seed)
-    for net in nets:
-        yield net, (len(net) - 1,)
-        for _ in range(many):
-            yield net, chance_asked(dice, net)
 
 
 class Told(unittest.TestCase):

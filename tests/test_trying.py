@@ -3,29 +3,17 @@ import random
 import unittest
 
 from fewrooms.trying import fewest, never_paper
-from samples import (LEANT_ON, MIXED, ONE, all_ahead, chance_asked, chance_net, chance_nets, fewest_by_words, full_tree,
-                     ladder, least_by_words, lists_in, moves_by_words, plan_does, row, spoil, square)
+from samples import (LEANT_ON, MIXED, ONE, all_ahead, asks, chance_net, chance_nets, fewest_by_words, full_tree, ladder,
+                     least_by_words, lists_in, moves_by_words, part_by_words, plan_does, row, spoil, square)
 
 SMALL = [ONE, ((), ()), MIXED, row(5), all_ahead(6), square(2, 3), full_tree(2), ladder(2), ((),) * 5]
 SMALL += chance_nets(101, 40, 7)
 TEN = [row(10), all_ahead(10), square(2, 5), square(5, 2), ladder(4), LEANT_ON + ((6, 7),), ((),) * 10]
 
 
-def asks(nets, seed, many=3):
-    dice = random.Random(seed)
-    for net in nets:
-        yield net, (len(net) - 1,)
-        for _ in range(many):
-            yield net, chance_asked(dice, net)
-
-
 def ten_works(seed, many):
     dice = random.Random(seed)
     return TEN + [chance_net(dice, 10) for _ in range(many)]
-
-
-def part_by_words(net, works):
-    return tuple(tuple(works.index(need) for need in net[work] if need in works) for work in works)
 
 
 class TestFewest(unittest.TestCase):
