@@ -6,13 +6,18 @@ def is_number(thing):
     return isinstance(thing, int) and not isinstance(thing, bool)
 
 
+# Whether a thing is a number from nought to below the end.
+def is_below(thing, end):
+    return is_number(thing) and 0 <= thing < end
+
+
 # Whether a thing is a rising tuple of unlike numbers, from nought to below the end.
 def is_rising(thing, end):
     if not isinstance(thing, tuple):
         return False
     least = 0
     for number in thing:
-        if not is_number(number) or number < least or number >= end:
+        if not is_below(number, end) or number < least:
             return False
         least = number + 1
     return True
@@ -20,10 +25,6 @@ def is_rising(thing, end):
 
 def is_pair(thing):
     return isinstance(thing, tuple) and len(thing) == 2
-
-
-def is_work(net, thing):
-    return is_number(thing) and 0 <= thing < len(net)
 
 
 def is_stand(net, rooms, thing):
@@ -34,7 +35,7 @@ def is_stand(net, rooms, thing):
 def is_plan(net, words, thing):
     if not isinstance(thing, list):
         return False
-    return all([is_pair(move) and move[0] in words and is_work(net, move[1]) for move in thing])
+    return all([is_pair(move) and move[0] in words and is_below(move[1], len(net)) for move in thing])
 
 
 # Whether a thing is a list of pairs of anything and a number from nought.

@@ -39,6 +39,10 @@ def moved(net, rooms, stand, move):
     return stand_behind(stand, move)
 
 
+def has_all(results, works):
+    return all([work in results for work in works])
+
+
 def moves_of(net, rooms, stand):
     dos = [("do", work) for work in range(len(net))]
     clears = [("clear", work) for work in range(len(net))]

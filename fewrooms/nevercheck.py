@@ -1,7 +1,7 @@
 """Whether a thing shows that so many rooms never do."""
 
 from fewrooms.kinds import is_pair, is_rising, is_stand
-from fewrooms.moves import moves_of, stand_behind
+from fewrooms.moves import has_all, moves_of, stand_behind
 from fewrooms.nets import part_net
 
 
@@ -23,7 +23,7 @@ def never_come_to(net, wanted, rooms, stands):
         return False
     if () not in stands or not are_closed(net, rooms, stands):
         return False
-    return not any([all([work in stand for work in wanted]) for stand in stands])
+    return not any([has_all(stand, wanted) for stand in stands])
 
 
 def shows_never(net, asked, rooms, thing):

@@ -1,7 +1,7 @@
 """Paths to a work, and the sides of a path."""
 
 from fewrooms.errors import TooMany
-from fewrooms.kinds import is_work
+from fewrooms.kinds import is_below
 
 MOST_PATHS = 300
 
@@ -111,7 +111,7 @@ def sides_of(net, path):
 def is_path(net, thing):
     if not isinstance(thing, tuple) or len(thing) == 0:
         return False
-    if not all([is_work(net, part) for part in thing]):
+    if not all([is_below(part, len(net)) for part in thing]):
         return False
     for ahead, work in zip(thing, thing[1:]):
         if ahead not in net[work]:

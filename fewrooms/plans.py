@@ -1,7 +1,7 @@
 """Plans: lists of moves, played from no results on."""
 
 from fewrooms.errors import Barred
-from fewrooms.moves import fault_of, stand_behind
+from fewrooms.moves import fault_of, has_all, stand_behind
 
 
 def played(net, rooms, plan):
@@ -29,4 +29,4 @@ def does(net, rooms, plan, asked):
         stands = played(net, rooms, plan)
     except Barred:
         return False
-    return all([work in stands[-1] for work in asked])
+    return has_all(stands[-1], asked)

@@ -1,7 +1,7 @@
 """A far shelf, to which results are put and from which they are fetched, each at a cost."""
 
 from fewrooms.errors import Barred
-from fewrooms.moves import fault_of, stand_behind
+from fewrooms.moves import fault_of, has_all, stand_behind
 from fewrooms.stairs import plan_to
 
 # In the order of the costs that are handed in; clears cost none.
@@ -92,7 +92,7 @@ def places_reached(net, rooms, costs):
 def least_far(net, asked, rooms, costs):
     reached = places_reached(net, rooms, costs)
     paper = [(place, reached[place][0]) for place in sorted(reached)]
-    ends = [place for place in reached if all([work in place[0] for work in asked])]
+    ends = [place for place in reached if has_all(place[0], asked)]
     if not ends:
         return ("none", paper)
     end = min(ends, key=lambda place: (reached[place][0], place))

@@ -2,15 +2,12 @@
 
 from fewrooms.errors import Barred
 from fewrooms.kinds import is_number, is_numbered, is_pair, is_plan, is_rising, is_stand
+from fewrooms.moves import has_all
 from fewrooms.shelf import WORDS, cost_of, far_cost, far_moved, far_moves, place_behind
 
 
 def is_place(net, rooms, thing):
     return is_pair(thing) and is_stand(net, rooms, thing[0]) and is_rising(thing[1], len(net))
-
-
-def has_all(place, asked):
-    return all([work in place[0] for work in asked])
 
 
 # Whether no move from a place leads away from the numbers, or to a greater one than its cost accounts for.
@@ -40,12 +37,12 @@ def does_far(net, asked, rooms, moves):
             place = far_moved(net, rooms, place, move)
     except Barred:
         return False
-    return has_all(place, asked)
+    return has_all(place[0], asked)
 
 
 def shows_far(net, asked, rooms, costs, thing):
     if is_pair(thing) and thing[0] == "none":
-        return is_paper(net, rooms, costs, thing[1]) and not any([has_all(pair[0], asked) for pair in thing[1]])
+        return is_paper(net, rooms, costs, thing[1]) and not any([has_all(pair[0][0], asked) for pair in thing[1]])
     if not isinstance(thing, tuple) or len(thing) != 4 or thing[0] != "plan":
         return False
     moves = thing[1]
@@ -54,4 +51,4 @@ def shows_far(net, asked, rooms, costs, thing):
         return False
     if not is_number(cost) or cost != far_cost(moves, costs) or not is_paper(net, rooms, costs, thing[3]):
         return False
-    return all([pair[1] >= cost for pair in thing[3] if has_all(pair[0], asked)])
+    return all([pair[1] >= cost for pair in thing[3] if has_all(pair[0][0], asked)])

@@ -1,6 +1,6 @@
 """Rooms against steps, on small nets, by going through all stands."""
 
-from fewrooms.moves import moves_of, stand_behind
+from fewrooms.moves import has_all, moves_of, stand_behind
 from fewrooms.nets import all_needed
 
 
@@ -25,7 +25,7 @@ def stands_reached(net, rooms):
 
 # The stand with all asked results that the fewest do's lead to; None where there is none.
 def best_end(reached, asked):
-    ends = [stand for stand in reached if all([work in stand for work in asked])]
+    ends = [stand for stand in reached if has_all(stand, asked)]
     return min(ends, key=lambda stand: (reached[stand][0], stand), default=None)
 
 

@@ -4,6 +4,11 @@ from fewrooms.errors import NoTree
 from fewrooms.nets import all_needed, is_tree
 
 
+def demand_tree(net, work):
+    if not is_tree(net, work):
+        raise NoTree(f"work {work} has no tree of its own")
+
+
 # Needs with greater numbers go first: each one that is done keeps a room while the next ones are done.
 def number_over(falling):
     taken = [number + ahead for ahead, number in enumerate(falling)]
@@ -11,8 +16,7 @@ def number_over(falling):
 
 
 def numbers_of(net, work):
-    if not is_tree(net, work):
-        raise NoTree(f"work {work} has no tree of its own")
+    demand_tree(net, work)
     numbers = {}
     # Needs have lesser numbers, so they are settled ahead of what needs them.
     for other in all_needed(net, (work,)):

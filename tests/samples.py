@@ -45,6 +45,10 @@ def ladder(n):
 
 
 ONE = ((),)
+# For 6 in three rooms, 0 must be done twice: it has to give way to 5, and 6 needs it again.
+TWICE = ((), (0,), (0,), (1,), (2,), (3, 4), (0, 5))
+# A chain whose first works are wanted again at its end, last ones first: the fewer rooms, the more is done again.
+BACK_AND_FORTH = ((), (0,), (1,), (2,), (3,), (3, 4), (2, 5), (1, 6), (0, 7))
 # 3 needs 1 and 2, both need 0; nobody needs 4, and 5 needs 0 and 3.
 MIXED = ((), (0,), (0,), (1, 2), (2,), (0, 3))
 # A tree up to 6, of which a work beyond it, 7, needs parts too; 8 stands alone.
@@ -76,6 +80,22 @@ def chance_net(dice, n, most=3):
 def chance_nets(seed, many, most_works, most_needs=3):
     dice = random.Random(seed)
     return [chance_net(dice, dice.randint(1, most_works), most_needs) for _ in range(many)]
+
+
+def chance_tree(dice, n, most=3):
+    """Each work but the last is needed by just one; some works are gathered by each new one."""
+    net, free = [], []
+    for work in range(n):
+        many = len(free) if work == n - 1 else min(len(free), dice.randint(0, most))
+        needs = dice.sample(free, many)
+        free = [one for one in free if one not in needs] + [work]
+        net.append(tuple(sorted(needs)))
+    return tuple(net)
+
+
+def chance_trees(seed, many, most_works):
+    dice = random.Random(seed)
+    return [chance_tree(dice, dice.randint(1, most_works)) for _ in range(many)]
 
 
 def chance_asked(dice, net):
@@ -288,6 +308,42 @@ def far_place_behind(net, rooms, moves):
         if place is None:
             return None
     return place
+
+
+def there_moves_by_words(net, wides, sizes, layout):
+    """Pairs (move, layout behind it) of all moves that are let by at a layout."""
+    for room, size in enumerate(sizes):
+        if layout[room] is not None:
+            yield ("clear", room), layout[:room] + (None,) + layout[room + 1:]
+            continue
+        for work, needs in enumerate(net):
+            if work not in layout and set(needs) <= set(layout) and wides[work] <= size:
+                yield ("do", work, room), layout[:room] + (work,) + layout[room + 1:]
+
+
+def there_reached_by_words(net, wides, sizes):
+    """For each layout that can be come to, the fewest do's up to it."""
+    steps, due = {}, [[(None,) * len(sizes)]]
+    for number, layouts in enumerate(due):
+        # Clears count for nothing, so what they lead to is gone on from in the same round.
+        while layouts:
+            layout = layouts.pop()
+            if layout not in steps:
+                steps[layout] = number
+                due.append([])
+                for move, further in there_moves_by_words(net, wides, sizes, layout):
+                    due[number + (move[0] == "do")].append(further)
+    return steps
+
+
+def layout_by_moves(net, wides, sizes, moves):
+    """The layout behind moves from all None on, or None where one is barred."""
+    layout = (None,) * len(sizes)
+    for move in moves:
+        layout = dict(there_moves_by_words(net, wides, sizes, layout)).get(move)
+        if layout is None:
+            return None
+    return layout
 
 
 def bent(dice, thing):

@@ -135,6 +135,12 @@ class TestShowsFar(Asked):
                 paper = [(one, odd if one == place else old) for one, old in PAPER]
                 self.assertIs(self.plan(paper=paper), False, (place, odd))
 
+    def test_numbers_below_nought(self):
+        # What is put is never taken from the shelf, so that lesser numbers there could go on for ever.
+        for less in (0, -1, -10):
+            never = [(place, less if place[1] else 0) for place, number in NEVER]
+            self.assertIs(self.told(("none", never), 1), less == 0)
+
     def test_the_first_place_with_nought(self):
         for odd in (1, False, None, "", -1):
             paper = [pair for pair in PAPER if pair[0] != ((), ())] + [(((), ()), odd)]

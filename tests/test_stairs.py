@@ -4,13 +4,12 @@ import unittest
 
 from fewrooms.nets import all_needed
 from fewrooms.stairs import least_steps, stair
-from samples import (LEANT_ON, MIXED, ONE, all_ahead, asks, chance_net, chance_nets, fewest_by_words, full_tree, ladder,
-                     least_by_words, lists_in, moves_by_words, plan_does, reached_by_words, row, spoil, square)
+from samples import (BACK_AND_FORTH, LEANT_ON, MIXED, ONE, TWICE, all_ahead, asks, chance_net, chance_nets,
+                     fewest_by_words, full_tree, ladder, least_by_words, lists_in, moves_by_words, plan_does,
+                     reached_by_words, row, spoil, square)
 
 SMALL = [ONE, ((), ()), MIXED, row(5), all_ahead(6), square(2, 3), full_tree(2), ladder(2), ((),) * 5]
 SMALL += chance_nets(81, 40, 7)
-# For 6 in three rooms, 0 must be done twice: it has to give way to 5, and 6 needs it again.
-TWICE = ((), (0,), (0,), (1,), (2,), (3, 4), (0, 5))
 
 
 class Told(unittest.TestCase):
@@ -154,11 +153,9 @@ class TestStair(Told):
             self.check_stair(net, asked)
 
     def test_a_stair_of_many_steps(self):
-        # A chain whose first works are wanted again at its end, last ones first.
-        net = row(5) + ((3, 4), (2, 5), (1, 6), (0, 7))
-        told = stair(net, (8,))
+        told = stair(BACK_AND_FORTH, (8,))
         self.assertGreaterEqual(len(told), 3)
-        self.check_stair(net, (8,))
+        self.check_stair(BACK_AND_FORTH, (8,))
 
     def test_told_lists_are_the_askers_own(self):
         told = stair(TWICE, (6,))

@@ -5,26 +5,10 @@ import unittest
 from fewrooms.errors import NoTree, RoomError
 from fewrooms.nets import all_needed, is_tree
 from fewrooms.trees import numbers_of, tree_plan, tree_rooms
-from samples import (LEANT_ON, MIXED, NAMED, ONE, all_ahead, chance_nets, fewest_by_words, first_fault, full_tree, row,
-                     square, stands_behind)
+from samples import (LEANT_ON, MIXED, NAMED, ONE, all_ahead, chance_nets, chance_tree, chance_trees, fewest_by_words,
+                     first_fault, full_tree, row, square, stands_behind)
 
 ALL = (numbers_of, tree_rooms, tree_plan)
-
-
-def chance_tree(dice, n, most=3):
-    """Each work but the last is needed by just one; some works are gathered by each new one."""
-    net, free = [], []
-    for work in range(n):
-        many = len(free) if work == n - 1 else min(len(free), dice.randint(0, most))
-        needs = dice.sample(free, many)
-        free = [one for one in free if one not in needs] + [work]
-        net.append(tuple(sorted(needs)))
-    return tuple(net)
-
-
-def chance_trees(seed, many, most_works):
-    dice = random.Random(seed)
-    return [chance_tree(dice, dice.randint(1, most_works)) for _ in range(many)]
 
 
 def number_by_words(net, work):
